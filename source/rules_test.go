@@ -11,6 +11,7 @@ import (
 
 	"paling/api"
 	"paling/check"
+	"paling/sample"
 	"paling/show"
 	"paling/source"
 )
@@ -84,10 +85,10 @@ func spoil(v reflect.Value) {
 
 // turns is what turns of a run come to, by a seed.
 func turns(r *source.Run, seed, threads int) []turned {
-	w := &writer{n: uint64(seed)}
+	dice := sample.Rolls(seed)
 	var l []turned
 	for range 60 {
-		e, what := r.Next(w.roll(threads), w.some())
+		e, what := r.Next(dice.Roll(threads), some(dice))
 		l = append(l, turned{e, what})
 	}
 	return l
@@ -97,8 +98,8 @@ func turns(r *source.Run, seed, threads int) []turned {
 func TestNothingIsChangedOrKept(t *testing.T) {
 	for seed := range 150 {
 		w, mem := written(t, seed)
-		want := source.New(w.p, mem)
-		p := write(seed).p
+		want := source.New(w.Program, mem)
+		p := sample.Write(seed).Program
 		mem = slices.Clone(mem)
 		roomy(reflect.ValueOf(&p).Elem())
 		roomy(reflect.ValueOf(&mem).Elem())
@@ -107,12 +108,12 @@ func TestNothingIsChangedOrKept(t *testing.T) {
 		first := turns(want, seed, len(p.Threads))
 		turns(source.New(p, mem), seed, len(p.Threads))
 		if text(p)+text(mem) != before {
-			t.Fatal(show.Program(w.p))
+			t.Fatal(show.Program(w.Program))
 		}
 		spoil(reflect.ValueOf(&p).Elem())
 		spoil(reflect.ValueOf(&mem).Elem())
-		if l := turns(r, seed, len(w.p.Threads)); !slices.Equal(l, first) || !slices.Equal(r.Memory(), want.Memory()) {
-			t.Fatalf("%s%v, not %v", show.Program(w.p), l, first)
+		if l := turns(r, seed, len(w.Program.Threads)); !slices.Equal(l, first) || !slices.Equal(r.Memory(), want.Memory()) {
+			t.Fatalf("%s%v, not %v", show.Program(w.Program), l, first)
 		}
 	}
 }
@@ -148,12 +149,12 @@ func TestMemoryIsNew(t *testing.T) {
 // Rule 4: what is told hangs on the arguments, and the run, alone, whoever else asks at the same time.
 func TestAlwaysTheSame(t *testing.T) {
 	w, mem := written(t, 7)
-	want := turns(source.New(w.p, mem), 1, len(w.p.Threads))
+	want := turns(source.New(w.Program, mem), 1, len(w.Program.Threads))
 	var group sync.WaitGroup
 	for range 4 {
 		group.Go(func() {
 			for range 30 {
-				if l := turns(source.New(w.p, mem), 1, len(w.p.Threads)); !slices.Equal(l, want) {
+				if l := turns(source.New(w.Program, mem), 1, len(w.Program.Threads)); !slices.Equal(l, want) {
 					t.Errorf("%v, not %v", l, want)
 				}
 			}
@@ -166,17 +167,17 @@ func TestAlwaysTheSame(t *testing.T) {
 func TestAskingChangesNothing(t *testing.T) {
 	for seed := range 100 {
 		w, mem := written(t, seed)
-		want := turns(source.New(w.p, mem), seed, len(w.p.Threads))
-		asked := &writer{n: uint64(seed)}
-		r := source.New(w.p, mem)
+		want := turns(source.New(w.Program, mem), seed, len(w.Program.Threads))
+		asked := sample.Rolls(seed)
+		r := source.New(w.Program, mem)
 		for i, x := range want {
 			r.Memory()
 			for lock := -2; lock < 9; lock++ {
 				r.Owner(lock)
 			}
 			r.Next(-1, plenty)
-			r.Next(len(w.p.Threads), plenty)
-			if e, what := r.Next(asked.roll(len(w.p.Threads)), asked.some()); e != x.e || what != x.what {
+			r.Next(len(w.Program.Threads), plenty)
+			if e, what := r.Next(asked.Roll(len(w.Program.Threads)), some(asked)); e != x.e || what != x.what {
 				t.Fatalf("turn %d: %v, %d, not %v", i, e, what, x)
 			}
 		}
@@ -233,17 +234,17 @@ func nested(levels int, l []api.Stmt) []api.Stmt {
 // How deep things are, and how many there are, plays no part.
 func TestDeepAndLong(t *testing.T) {
 	many := 1 << 16
-	e := named("a")
+	e := sample.Named("a")
 	for range many / 2 {
-		e = api.Expr{Kind: api.Neg, Kids: []api.Expr{two(api.Sub, number(1), e)}} // a less 1
+		e = api.Expr{Kind: api.Neg, Kids: []api.Expr{sample.Two(api.Sub, sample.Number(1), e)}} // a less 1
 	}
-	f := api.Func{Name: "f", Params: []api.Param{{Name: "a"}}, Ret: e, Body: nested(many, []api.Stmt{{Kind: api.Assign, Name: "a", E: []api.Expr{two(api.Add, named("a"), number(7))}}})}
-	call := api.Stmt{Kind: api.Put, E: []api.Expr{{Kind: api.Call, Name: "f", Kids: []api.Expr{number(5)}}}}
+	f := api.Func{Name: "f", Params: []api.Param{{Name: "a"}}, Ret: e, Body: nested(many, []api.Stmt{{Kind: api.Assign, Name: "a", E: []api.Expr{sample.Two(api.Add, sample.Named("a"), sample.Number(7))}}})}
+	call := api.Stmt{Kind: api.Put, E: []api.Expr{{Kind: api.Call, Name: "f", Kids: []api.Expr{sample.Number(5)}}}}
 	var row []api.Stmt
 	for i := range many {
-		row = append(row, api.Stmt{Kind: api.Let, Name: "x" + strconv.Itoa(i), E: []api.Expr{number(i)}})
+		row = append(row, api.Stmt{Kind: api.Let, Name: "x" + strconv.Itoa(i), E: []api.Expr{sample.Number(i)}})
 	}
-	row = append(row, api.Stmt{Kind: api.Put, E: []api.Expr{named("x60000")}})
+	row = append(row, api.Stmt{Kind: api.Put, E: []api.Expr{sample.Named("x60000")}})
 	p := api.Program{Funcs: []api.Func{f}, Threads: [][]api.Stmt{nested(many, []api.Stmt{call}), row}}
 	if bad, at := check.Program(p); bad != api.OK {
 		t.Fatal(bad, at)
@@ -345,10 +346,10 @@ func TestOddGlobals(t *testing.T) {
 			name := "g" + strconv.Itoa(i)
 			p.Globals = append(p.Globals, api.Global{Name: name, Len: n, Type: api.Type{Secret: i%2 == 0}})
 			body = append(body,
-				api.Stmt{Kind: api.Assign, Name: name, E: []api.Expr{number(5)}},
-				api.Stmt{Kind: api.Put, E: []api.Expr{named(name)}},
-				api.Stmt{Kind: api.Assign, Name: name, Index: []api.Expr{number(0)}, E: []api.Expr{number(6)}},
-				api.Stmt{Kind: api.Put, E: []api.Expr{{Kind: api.Elem, Name: name, Kids: []api.Expr{number(n - 1)}}}})
+				api.Stmt{Kind: api.Assign, Name: name, E: []api.Expr{sample.Number(5)}},
+				api.Stmt{Kind: api.Put, E: []api.Expr{sample.Named(name)}},
+				api.Stmt{Kind: api.Assign, Name: name, Index: []api.Expr{sample.Number(0)}, E: []api.Expr{sample.Number(6)}},
+				api.Stmt{Kind: api.Put, E: []api.Expr{{Kind: api.Elem, Name: name, Kids: []api.Expr{sample.Number(n - 1)}}}})
 		}
 		p.Threads = [][]api.Stmt{body}
 		r := source.New(p, []int64{1, 2})

@@ -6,31 +6,32 @@ import (
 
 	"paling/api"
 	"paling/check"
+	"paling/sample"
 	"paling/show"
 	"paling/source"
 )
 
 // written is a seed's program, which must be one that may be, and a first memory.
-func written(t *testing.T, seed int) (*writer, []int64) {
+func written(t *testing.T, seed int) (*sample.Writer, []int64) {
 	t.Helper()
-	w := write(seed)
-	if bad, _ := check.Program(w.p); bad != api.OK {
-		t.Fatalf("%v:\n%s", bad, show.Program(w.p))
+	w := sample.Write(seed)
+	if bad, _ := check.Program(w.Program); bad != api.OK {
+		t.Fatalf("%v:\n%s", bad, show.Program(w.Program))
 	}
-	return w, w.words()
+	return w, w.Words()
 }
 
 // some is some fuel, mostly little.
-func (w *writer) some() int {
-	switch w.roll(8) {
+func some(d *sample.Dice) int {
+	switch d.Roll(8) {
 	case 0:
-		return -w.roll(3)
+		return -d.Roll(3)
 	case 1:
 		return 400
 	case 2, 3:
-		return w.roll(60)
+		return d.Roll(60)
 	}
-	return w.roll(7)
+	return d.Roll(7)
 }
 
 // P10.1 to P10.3: programs that are written, with threads in any order, and any fuel: each turn comes to what is meant, and so do memory and locks behind it.
@@ -38,24 +39,24 @@ func TestWritten(t *testing.T) {
 	seen := map[turned]int{}
 	for seed := range 1200 {
 		w, mem := written(t, seed)
-		r, m := source.New(w.p, mem), newMeant(w.p, mem)
-		over := make([]bool, len(w.p.Threads))
-		for turn := range 40 + w.roll(60) {
-			thread, fuel := w.roll(len(w.p.Threads)), w.some()
-			if over[thread] && w.roll(4) > 0 { // few turns of those that have ended are enough
+		r, m := source.New(w.Program, mem), newMeant(w.Program, mem)
+		over := make([]bool, len(w.Program.Threads))
+		for turn := range 40 + w.Roll(60) {
+			thread, fuel := w.Roll(len(w.Program.Threads)), some(w.Dice)
+			if over[thread] && w.Roll(4) > 0 { // few turns of those that have ended are enough
 				thread = max(slices.Index(over, false), 0)
 			}
 			e, what := r.Next(thread, fuel)
 			want := m.next(thread, fuel)
 			if e != want.e || what != want.what {
-				t.Fatalf("%s%v, turn %d: %v, %d, not %v", show.Program(w.p), mem, turn, e, what, want)
+				t.Fatalf("%s%v, turn %d: %v, %d, not %v", show.Program(w.Program), mem, turn, e, what, want)
 			}
 			if !slices.Equal(r.Memory(), m.memory()) {
-				t.Fatalf("%s%v, turn %d: %v, not %v", show.Program(w.p), mem, turn, r.Memory(), m.memory())
+				t.Fatalf("%s%v, turn %d: %v, not %v", show.Program(w.Program), mem, turn, r.Memory(), m.memory())
 			}
-			for i := range w.p.Locks {
+			for i := range w.Program.Locks {
 				if r.Owner(i) != m.owns(i) {
-					t.Fatalf("%s%v, turn %d: %d, not %d", show.Program(w.p), mem, turn, r.Owner(i), m.owns(i))
+					t.Fatalf("%s%v, turn %d: %d, not %d", show.Program(w.Program), mem, turn, r.Owner(i), m.owns(i))
 				}
 			}
 			over[thread] = want.what == source.Ended
@@ -79,21 +80,21 @@ func TestTiredIsAsIfItHadntBeen(t *testing.T) {
 		w, mem := written(t, seed)
 		var turns []int
 		var want []api.Event
-		r := source.New(w.p, mem)
+		r := source.New(w.Program, mem)
 		for range 150 {
-			thread := w.roll(len(w.p.Threads))
-			if e, what := r.Next(thread, w.some()); what == source.Did {
+			thread := w.Roll(len(w.Program.Threads))
+			if e, what := r.Next(thread, some(w.Dice)); what == source.Did {
 				turns, want = append(turns, thread), append(want, e)
 			}
 		}
-		again := source.New(w.p, mem)
+		again := source.New(w.Program, mem)
 		for i, thread := range turns {
 			if e, what := again.Next(thread, plenty); what != source.Did || e != want[i] {
-				t.Fatalf("%s%v, turn %d: %v, %d, not %v", show.Program(w.p), mem, i, e, what, want[i])
+				t.Fatalf("%s%v, turn %d: %v, %d, not %v", show.Program(w.Program), mem, i, e, what, want[i])
 			}
 		}
-		if ended(r, len(w.p.Threads)) && !slices.Equal(r.Memory(), again.Memory()) {
-			t.Fatalf("%s%v: %v, not %v", show.Program(w.p), mem, again.Memory(), r.Memory())
+		if ended(r, len(w.Program.Threads)) && !slices.Equal(r.Memory(), again.Memory()) {
+			t.Fatalf("%s%v: %v, not %v", show.Program(w.Program), mem, again.Memory(), r.Memory())
 		}
 	}
 }
@@ -112,22 +113,22 @@ func ended(r *source.Run, threads int) bool {
 func TestOwnReadsAlone(t *testing.T) {
 	for seed := range 800 {
 		w, mem := written(t, seed)
-		if len(w.p.Locks) > 0 {
+		if len(w.Program.Locks) > 0 {
 			continue
 		}
-		uses := check.Uses(w.p)
-		r := source.New(w.p, mem)
+		uses := check.Uses(w.Program)
+		r := source.New(w.Program, mem)
 		var all [api.MaxThreads][]turned
 		for range 60 {
-			thread := w.roll(len(w.p.Threads))
+			thread := w.Roll(len(w.Program.Threads))
 			e, what := r.Next(thread, 2000)
 			all[thread] = append(all[thread], turned{e, what})
 		}
-		for thread := range w.p.Threads {
-			own := source.New(w.p, others(w, mem, uses, thread))
+		for thread := range w.Program.Threads {
+			own := source.New(w.Program, others(w, mem, uses, thread))
 			for i, want := range all[thread] {
 				if e, what := own.Next(thread, 2000); e != want.e || what != want.what {
-					t.Fatalf("%s%v, thread %d, turn %d: %v, %d, not %v", show.Program(w.p), mem, thread, i, e, what, want)
+					t.Fatalf("%s%v, thread %d, turn %d: %v, %d, not %v", show.Program(w.Program), mem, thread, i, e, what, want)
 				}
 			}
 		}
@@ -135,11 +136,11 @@ func TestOwnReadsAlone(t *testing.T) {
 }
 
 // others is a memory in which all words that a thread doesn't use are others.
-func others(w *writer, mem []int64, uses []check.Use, thread int) []int64 {
+func others(w *sample.Writer, mem []int64, uses []check.Use, thread int) []int64 {
 	var m []int64
 	next := 0
 	for _, secret := range []bool{false, true} {
-		for i, g := range w.p.Globals {
+		for i, g := range w.Program.Globals {
 			for range max(g.Len, 1) {
 				if g.Type.Secret != secret {
 					continue
@@ -149,7 +150,7 @@ func others(w *writer, mem []int64, uses []check.Use, thread int) []int64 {
 					n = mem[next]
 				}
 				if !slices.Contains(uses[i].Uses, thread) {
-					n = int64(w.roll(100) - 50)
+					n = int64(w.Roll(100) - 50)
 				}
 				m, next = append(m, n), next+1
 			}

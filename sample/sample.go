@@ -1,4 +1,5 @@
-package source_test
+// Package sample writes programs that may be, for the tests of other packages.
+package sample
 
 import (
 	"slices"
@@ -7,11 +8,23 @@ import (
 	"paling/api"
 )
 
-// writer writes programs that may be. What it writes hangs on its seed alone.
-type writer struct {
-	n     uint64
-	p     api.Program
-	owner []int // for each global: the thread that alone uses it; below 0: all do, and none changes it
+// Dice roll numbers that hang on their seed alone.
+type Dice struct{ n uint64 }
+
+// Rolls is dice of a seed.
+func Rolls(seed int) *Dice { return &Dice{uint64(seed)} }
+
+// Roll is the next of its numbers below another, which is above 0.
+func (d *Dice) Roll(below int) int {
+	d.n = d.n*6364136223846793005 + 1442695040888963407
+	return int(d.n>>33) % below
+}
+
+// Writer writes a program that may be. What it writes hangs on its seed alone.
+type Writer struct {
+	*Dice
+	Program api.Program
+	owner   []int // for each global: the thread that alone uses it; below 0: all do, and none changes it
 }
 
 // place is where something is written.
@@ -38,69 +51,63 @@ func (x place) with(l local) place {
 // fresh is a name that no local has there.
 func (x place) fresh() string { return "v" + strconv.Itoa(len(x.locals)) }
 
-// write is one that has written.
-func write(seed int) *writer {
-	w := &writer{n: uint64(seed)*2 + 1}
-	for i := range w.roll(4) {
-		w.p.Locks = append(w.p.Locks, api.Lock{Name: "m" + strconv.Itoa(i)})
+// Write is one that has written.
+func Write(seed int) *Writer {
+	w := &Writer{Dice: Rolls(seed*2 + 1)}
+	for i := range w.Roll(4) {
+		w.Program.Locks = append(w.Program.Locks, api.Lock{Name: "m" + strconv.Itoa(i)})
 	}
-	many := 1 + w.roll(4)
-	for i := range 1 + w.roll(10) {
-		w.p.Globals = append(w.p.Globals, w.global("g"+strconv.Itoa(i)))
-		w.owner = append(w.owner, w.roll(many+1)-1)
+	many := 1 + w.Roll(4)
+	for i := range 1 + w.Roll(10) {
+		w.Program.Globals = append(w.Program.Globals, w.global("g"+strconv.Itoa(i)))
+		w.owner = append(w.owner, w.Roll(many+1)-1)
 	}
-	for i := range w.roll(5) {
-		w.p.Funcs = append(w.p.Funcs, w.function("f"+strconv.Itoa(i), i))
+	for i := range w.Roll(5) {
+		w.Program.Funcs = append(w.Program.Funcs, w.function("f"+strconv.Itoa(i), i))
 	}
 	for i := range many {
-		w.p.Threads = append(w.p.Threads, w.row(4, place{function: -1, thread: i}))
+		w.Program.Threads = append(w.Program.Threads, w.row(4, place{function: -1, thread: i}))
 	}
 	return w
 }
 
-// roll is the next of its numbers below another.
-func (w *writer) roll(below int) int {
-	w.n = w.n*6364136223846793005 + 1442695040888963407
-	return int(w.n>>33) % below
-}
-
-// words are some, for a memory.
-func (w *writer) words() []int64 {
-	m := make([]int64, w.roll(120))
+// Words are some, for a memory.
+func (w *Writer) Words() []int64 {
+	m := make([]int64, w.Roll(120))
 	for i := range m {
-		if m[i] = int64(w.roll(7) - 2); w.roll(6) == 0 {
-			m[i] = int64(w.roll(1<<30)) << w.roll(34) * int64(1-2*w.roll(2))
+		if m[i] = int64(w.Roll(7) - 2); w.Roll(6) == 0 {
+			m[i] = int64(w.Roll(1<<30)) << w.Roll(34) * int64(1-2*w.Roll(2))
 		}
 	}
 	return m
 }
 
 // kind is any type.
-func (w *writer) kind() api.Type { return api.Type{Truth: w.roll(2) == 0, Secret: w.roll(3) == 0} }
+func (w *Writer) kind() api.Type { return api.Type{Truth: w.Roll(2) == 0, Secret: w.Roll(3) == 0} }
 
 // fitting is a type that fits one.
-func (w *writer) fitting(t api.Type) api.Type {
-	t.Secret = t.Secret && w.roll(3) > 0
+func (w *Writer) fitting(t api.Type) api.Type {
+	t.Secret = t.Secret && w.Roll(3) > 0
 	return t
 }
 
 // global is one.
-func (w *writer) global(name string) api.Global {
+func (w *Writer) global(name string) api.Global {
 	g := api.Global{Name: name, Type: w.kind()}
-	if w.roll(2) == 0 {
-		g.Len = 1 + w.roll(9)
+	if w.Roll(2) == 0 {
+		g.Len = 1 + w.Roll(9)
 	}
-	if n := len(w.p.Locks); n > 0 && w.roll(2) == 0 {
-		g.By = w.p.Locks[w.roll(n)].Name
+	if n := len(w.Program.Locks); n > 0 && w.Roll(2) == 0 {
+		g.By = w.Program.Locks[w.Roll(n)].Name
 	}
 	return g
 }
 
 // function is one, that stands at some place of the row.
-func (w *writer) function(name string, at int) api.Func {
+func (w *Writer) function(name string, at int) api.Func {
 	f := api.Func{Name: name, Type: w.kind()}
 	x := place{function: at}
-	for range w.roll(4) {
+	for range w.Roll(4) {
 		l := local{name: x.fresh(), kind: w.kind()}
 		f.Params = append(f.Params, api.Param{Name: l.name, Type: l.kind})
 		x = x.with(l)
@@ -111,15 +118,15 @@ func (w *writer) function(name string, at int) api.Func {
 			x = x.with(local{name: s.Name, kind: s.Type})
 		}
 	}
-	f.Ret = w.value(f.Type, x, 1+w.roll(4))
+	f.Ret = w.value(f.Type, x, 1+w.Roll(4))
 	return f
 }
 
 // row is statements, with others within up to some depth.
-func (w *writer) row(deep int, x place) []api.Stmt {
+func (w *Writer) row(deep int, x place) []api.Stmt {
 	var l []api.Stmt
-	for range 1 + w.roll(7) {
-		if deep > 0 && w.roll(6) == 0 {
+	for range 1 + w.Roll(7) {
+		if deep > 0 && w.Roll(6) == 0 {
 			counter, loop := w.loop(deep, x)
 			l = append(l, counter, loop)
 			x = x.with(local{counter.Name, counter.Type, true})
@@ -138,24 +145,28 @@ func (w *writer) row(deep int, x place) []api.Stmt {
 }
 
 // loop is one that counts, and what it counts by.
-func (w *writer) loop(deep int, x place) (api.Stmt, api.Stmt) {
+func (w *Writer) loop(deep int, x place) (api.Stmt, api.Stmt) {
 	i := x.fresh()
 	counter := api.Stmt{Kind: api.Let, Name: i, E: []api.Expr{{Kind: api.Num}}}
 	body := w.row(deep-1, x.with(local{i, api.Type{}, true}))
-	body = append(body, api.Stmt{Kind: api.Assign, Name: i, E: []api.Expr{two(api.Add, named(i), number(1))}})
-	return counter, api.Stmt{Kind: api.While, E: []api.Expr{two(api.Lt, named(i), number(w.roll(4)))}, Body: body}
+	body = append(body, api.Stmt{Kind: api.Assign, Name: i, E: []api.Expr{Two(api.Add, Named(i), Number(1))}})
+	return counter, api.Stmt{Kind: api.While, E: []api.Expr{Two(api.Lt, Named(i), Number(w.Roll(4)))}, Body: body}
 }
 
-// named, number and two are expressions.
-func named(name string) api.Expr { return api.Expr{Kind: api.Var, Name: name} }
-func number(n int) api.Expr      { return api.Expr{Kind: api.Num, N: int64(n)} }
-func two(op int, a, b api.Expr) api.Expr {
+// Named is a thing's name, alone.
+func Named(name string) api.Expr { return api.Expr{Kind: api.Var, Name: name} }
+
+// Number is one.
+func Number(n int) api.Expr { return api.Expr{Kind: api.Num, N: int64(n)} }
+
+// Two is an operator of two expressions.
+func Two(op int, a, b api.Expr) api.Expr {
 	return api.Expr{Kind: api.Two, Op: op, Kids: []api.Expr{a, b}}
 }
 
 // stmt is one; false: there is nothing that may be.
-func (w *writer) stmt(deep int, x place) (api.Stmt, bool) {
-	kind := []int{api.Let, api.Assign, api.Assign, api.Assign, api.If, api.While, api.Hold, api.Put, api.Put, api.Put}[w.roll(10)]
+func (w *Writer) stmt(deep int, x place) (api.Stmt, bool) {
+	kind := []int{api.Let, api.Assign, api.Assign, api.Assign, api.If, api.While, api.Hold, api.Put, api.Put, api.Put}[w.Roll(10)]
 	s := api.Stmt{Kind: kind}
 	if deep == 0 && (kind == api.If || kind == api.While || kind == api.Hold) {
 		return s, false
@@ -169,10 +180,10 @@ func (w *writer) stmt(deep int, x place) (api.Stmt, bool) {
 	case api.If, api.While:
 		s.E = w.one(api.Type{Truth: true}, x)
 		if kind == api.While { // few of these end by themselves
-			s.E[0] = two(api.Both, s.E[0], api.Expr{Kind: api.Truth, N: int64(w.roll(3) / 2)})
+			s.E[0] = Two(api.Both, s.E[0], api.Expr{Kind: api.Truth, N: int64(w.Roll(3) / 2)})
 		}
 		s.Body = w.row(deep-1, x)
-		if kind == api.If && w.roll(2) == 0 {
+		if kind == api.If && w.Roll(2) == 0 {
 			s.Else = w.row(deep-1, x)
 		}
 	case api.Hold:
@@ -181,17 +192,17 @@ func (w *writer) stmt(deep int, x place) (api.Stmt, bool) {
 		if x.function >= 0 {
 			return s, false
 		}
-		s.E = w.one(api.Type{Truth: w.roll(2) == 0}, x)
+		s.E = w.one(api.Type{Truth: w.Roll(2) == 0}, x)
 	}
 	return s, true
 }
 
 // hold holds a lock that isn't held.
-func (w *writer) hold(deep int, x place) (api.Stmt, bool) {
-	if x.function >= 0 || len(w.p.Locks) == 0 {
+func (w *Writer) hold(deep int, x place) (api.Stmt, bool) {
+	if x.function >= 0 || len(w.Program.Locks) == 0 {
 		return api.Stmt{}, false
 	}
-	s := api.Stmt{Kind: api.Hold, Name: w.p.Locks[w.roll(len(w.p.Locks))].Name}
+	s := api.Stmt{Kind: api.Hold, Name: w.Program.Locks[w.Roll(len(w.Program.Locks))].Name}
 	if slices.Contains(x.held, s.Name) {
 		return api.Stmt{}, false
 	}
@@ -201,18 +212,18 @@ func (w *writer) hold(deep int, x place) (api.Stmt, bool) {
 }
 
 // assign changes a local, or a global that may be changed.
-func (w *writer) assign(x place) (api.Stmt, bool) {
+func (w *Writer) assign(x place) (api.Stmt, bool) {
 	s := api.Stmt{Kind: api.Assign}
-	if len(x.locals) > 0 && w.roll(2) == 0 {
-		l := x.locals[w.roll(len(x.locals))]
+	if len(x.locals) > 0 && w.Roll(2) == 0 {
+		l := x.locals[w.Roll(len(x.locals))]
 		s.Name, s.E = l.name, w.one(l.kind, x)
 		return s, !l.counts
 	}
-	i, is := w.usable(x, func(i int) bool { return w.p.Globals[i].By != "" || w.owner[i] == x.thread })
+	i, is := w.usable(x, func(i int) bool { return w.Program.Globals[i].By != "" || w.owner[i] == x.thread })
 	if !is {
 		return s, false
 	}
-	g := w.p.Globals[i]
+	g := w.Program.Globals[i]
 	if s.Name = g.Name; g.Len > 0 {
 		s.Index = []api.Expr{w.index(g.Len, x, 3)}
 	}
@@ -221,28 +232,28 @@ func (w *writer) assign(x place) (api.Stmt, bool) {
 }
 
 // index is a place of an array, mostly one that it has.
-func (w *writer) index(length int, x place, size int) api.Expr {
+func (w *Writer) index(length int, x place, size int) api.Expr {
 	e := w.value(api.Type{}, x, size)
-	switch w.roll(8) {
+	switch w.Roll(8) {
 	case 0:
 		return e
 	case 1, 2, 3:
-		return number(w.roll(length))
+		return Number(w.Roll(length))
 	}
 	mask := 1
 	for mask*2 <= length {
 		mask *= 2
 	}
-	return two(api.And, e, number(mask-1))
+	return Two(api.And, e, Number(mask-1))
 }
 
 // usable is a global that may be used at a place, and is as it is asked; false: there is none.
-func (w *writer) usable(x place, is func(i int) bool) (int, bool) {
+func (w *Writer) usable(x place, is func(i int) bool) (int, bool) {
 	if x.function >= 0 {
 		return 0, false
 	}
 	var l []int
-	for i, g := range w.p.Globals {
+	for i, g := range w.Program.Globals {
 		alone := g.By == "" && (w.owner[i] < 0 || w.owner[i] == x.thread)
 		if (alone || slices.Contains(x.held, g.By)) && is(i) {
 			l = append(l, i)
@@ -251,40 +262,40 @@ func (w *writer) usable(x place, is func(i int) bool) (int, bool) {
 	if len(l) == 0 {
 		return 0, false
 	}
-	return l[w.roll(len(l))], true
+	return l[w.Roll(len(l))], true
 }
 
 // one is an expression that fits a type, as statements have it.
-func (w *writer) one(t api.Type, x place) []api.Expr {
-	return []api.Expr{w.value(w.fitting(t), x, 1+w.roll(5))}
+func (w *Writer) one(t api.Type, x place) []api.Expr {
+	return []api.Expr{w.value(w.fitting(t), x, 1+w.Roll(5))}
 }
 
 // leaf is an expression without kids: of a type, or the public one that fits it.
-func (w *writer) leaf(t api.Type, x place) api.Expr {
+func (w *Writer) leaf(t api.Type, x place) api.Expr {
 	var l []string
 	for _, v := range x.locals {
 		if v.kind == t {
 			l = append(l, v.name)
 		}
 	}
-	if len(l) > 0 && w.roll(3) > 0 {
-		return named(l[w.roll(len(l))])
+	if len(l) > 0 && w.Roll(3) > 0 {
+		return Named(l[w.Roll(len(l))])
 	}
-	if i, is := w.usable(x, func(i int) bool { return w.p.Globals[i].Type == t && w.p.Globals[i].Len == 0 }); is {
-		return named(w.p.Globals[i].Name)
+	if i, is := w.usable(x, func(i int) bool { return w.Program.Globals[i].Type == t && w.Program.Globals[i].Len == 0 }); is {
+		return Named(w.Program.Globals[i].Name)
 	}
 	if t.Truth {
-		return api.Expr{Kind: api.Truth, N: int64(w.roll(2))}
+		return api.Expr{Kind: api.Truth, N: int64(w.Roll(2))}
 	}
-	return number(w.roll(5))
+	return Number(w.Roll(5))
 }
 
 // value is an expression that fits a type, of some size.
-func (w *writer) value(t api.Type, x place, size int) api.Expr {
+func (w *Writer) value(t api.Type, x place, size int) api.Expr {
 	if size <= 1 {
 		return w.leaf(t, x)
 	}
-	switch w.roll(5) {
+	switch w.Roll(5) {
 	case 0:
 		kind := api.Neg
 		if t.Truth {
@@ -292,8 +303,8 @@ func (w *writer) value(t api.Type, x place, size int) api.Expr {
 		}
 		return api.Expr{Kind: kind, Kids: []api.Expr{w.value(t, x, size-1)}}
 	case 1:
-		if i, is := w.usable(x, func(i int) bool { return w.p.Globals[i].Type == t && w.p.Globals[i].Len > 0 }); is {
-			g := w.p.Globals[i]
+		if i, is := w.usable(x, func(i int) bool { return w.Program.Globals[i].Type == t && w.Program.Globals[i].Len > 0 }); is {
+			g := w.Program.Globals[i]
 			return api.Expr{Kind: api.Elem, Name: g.Name, Kids: []api.Expr{w.index(g.Len, x, size-1)}}
 		}
 	case 2:
@@ -305,9 +316,9 @@ func (w *writer) value(t api.Type, x place, size int) api.Expr {
 }
 
 // call is one of a function of a type; false: there is none ahead.
-func (w *writer) call(t api.Type, x place, size int) (api.Expr, bool) {
+func (w *Writer) call(t api.Type, x place, size int) (api.Expr, bool) {
 	var l []api.Func
-	for i, f := range w.p.Funcs {
+	for i, f := range w.Program.Funcs {
 		if f.Type == t && (x.function < 0 || i < x.function) {
 			l = append(l, f)
 		}
@@ -315,7 +326,7 @@ func (w *writer) call(t api.Type, x place, size int) (api.Expr, bool) {
 	if len(l) == 0 {
 		return api.Expr{}, false
 	}
-	f := l[w.roll(len(l))]
+	f := l[w.Roll(len(l))]
 	e := api.Expr{Kind: api.Call, Name: f.Name}
 	for _, p := range f.Params {
 		e.Kids = append(e.Kids, w.value(w.fitting(p.Type), x, size/len(f.Params)))
@@ -324,24 +335,24 @@ func (w *writer) call(t api.Type, x place, size int) (api.Expr, bool) {
 }
 
 // pair is an operator of two, that comes to what fits a type; mostly, what divides isn't 0.
-func (w *writer) pair(t api.Type, x place, size int) api.Expr {
+func (w *Writer) pair(t api.Type, x place, size int) api.Expr {
 	ops := []int{api.Add, api.Sub, api.Mul, api.And, api.Or, api.Xor, api.Shl, api.Shr, api.Div, api.Rem}
 	left := t
 	if t.Truth {
 		ops = []int{api.Eq, api.Ne, api.Lt, api.Le, api.Gt, api.Ge, api.Both, api.Any}
 	}
-	op := ops[w.roll(len(ops))]
+	op := ops[w.Roll(len(ops))]
 	if op >= api.Eq && op <= api.Ge {
-		left.Truth = op <= api.Ne && w.roll(2) == 0
+		left.Truth = op <= api.Ne && w.Roll(2) == 0
 	}
 	right := left
 	if op == api.Div || op == api.Rem {
 		right.Secret = false
 	}
-	part := 1 + w.roll(size-1)
+	part := 1 + w.Roll(size-1)
 	a, b := w.value(w.fitting(left), x, part), w.value(right, x, size-part)
-	if (op == api.Div || op == api.Rem) && w.roll(5) > 0 {
-		b = two(api.Or, b, number(1))
+	if (op == api.Div || op == api.Rem) && w.Roll(5) > 0 {
+		b = Two(api.Or, b, Number(1))
 	}
-	return two(op, a, b)
+	return Two(op, a, b)
 }
