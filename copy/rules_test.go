@@ -73,27 +73,7 @@ func TestAlwaysTheSame(t *testing.T) {
 func TestWhatPlaysNoPart(t *testing.T) {
 	for seed := range 400 {
 		c := some(seed)
-		d := sample.Rolls(seed)
-		for at, i := range c {
-			if i.Kind != api.Calc {
-				c[at].Op = d.Roll(30) - 5
-			}
-			if i.Kind > api.Load {
-				c[at].D = d.Roll(9)
-			}
-			if i.Kind != api.Jump && i.Kind != api.Zero {
-				c[at].To = d.Roll(len(c))
-			}
-			if i.Kind == api.Set || i.Kind == api.Jump || i.Kind == api.Fence || i.Kind == api.Take || i.Kind == api.Give || i.Kind > api.Out {
-				c[at].A = d.Roll(9)
-			}
-			if i.Kind == api.Set || i.Kind == api.Move || i.Kind == api.Load || i.Kind >= api.Jump {
-				c[at].B = d.Roll(9)
-			}
-			if i.Kind != api.Set {
-				c[at].N = int64(d.Roll(9))
-			}
-		}
+		sample.Rolls(seed).Stray(c)
 		holds(t, c, meantOf(c))
 	}
 }

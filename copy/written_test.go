@@ -11,23 +11,6 @@ import (
 	"paling/sample"
 )
 
-// every calls for each code of so many instructions that are of some.
-func every(many int, of []api.Ins, do func(api.Code)) {
-	c := make(api.Code, many)
-	var put func(at int)
-	put = func(at int) {
-		if at == many {
-			do(c)
-			return
-		}
-		for _, i := range of {
-			c[at] = i
-			put(at + 1)
-		}
-	}
-	put(0)
-}
-
 // leaps are all that go to a place of so many, by a register, or at once, and more.
 func leaps(many int, more ...api.Ins) []api.Ins {
 	for to := range many {
@@ -47,10 +30,10 @@ func TestEveryShortCode(t *testing.T) {
 		others += become
 	}
 	for many := range 4 {
-		every(many, leaps(many, move(1, 0), move(0, 1), move(2, 1), move(1, 1), load(0), does(1, 2, api.Add, 1), pick(1, 1, 2), out(1), halt), do)
+		sample.Every(many, leaps(many, move(1, 0), move(0, 1), move(2, 1), move(1, 1), load(0), does(1, 2, api.Add, 1), pick(1, 1, 2), out(1), halt), do)
 	}
-	every(4, leaps(4, move(1, 0), move(2, 1), move(0, 2), load(1), out(2)), do)
-	every(5, []api.Ins{move(1, 0), move(0, 2), move(2, 1), load(0), zero(2, 1), zero(2, 2), zero(1, 4)}, do)
+	sample.Every(4, leaps(4, move(1, 0), move(2, 1), move(0, 2), load(1), out(2)), do)
+	sample.Every(5, []api.Ins{move(1, 0), move(0, 2), move(2, 1), load(0), zero(2, 1), zero(2, 2), zero(1, 4)}, do)
 	if count != 1+11+13*13+15*15*15+13*13*13*13+7*7*7*7*7 || others < 15000 {
 		t.Error(count, others)
 	}
@@ -63,56 +46,8 @@ var kinds = []int{
 	api.Calc, api.Calc, api.Pick, api.Load, api.Store, api.Store, api.Zero, api.Zero, api.Zero, api.Zero, api.Zero, api.Out, api.Out,
 }
 
-// written is an instruction of a code of so many, at a place: of so many registers, each so far from the next one; it leads not far, mostly.
-func written(d *sample.Dice, at, many, regs, far int) api.Ins {
-	reg := func() int { return d.Roll(regs) * far }
-	some := func() int {
-		if d.Roll(3) == 0 {
-			return -1
-		}
-		return reg()
-	}
-	to := d.Roll(many)
-	if d.Roll(5) > 0 {
-		to = min(max(0, at+d.Roll(12)-4), many-1)
-	}
-	switch kind := kinds[d.Roll(len(kinds))]; kind {
-	case api.Set:
-		return set(reg(), int64(d.Roll(3)-1))
-	case api.Move:
-		return move(reg(), reg())
-	case api.Calc:
-		return does(reg(), reg(), d.Roll(api.Any+1), reg())
-	case api.Pick:
-		return pick(reg(), reg(), reg())
-	case api.Load:
-		return api.Ins{Kind: kind, D: reg(), A: some(), N: int64(d.Roll(4))}
-	case api.Store:
-		return api.Ins{Kind: kind, A: some(), B: reg(), N: int64(d.Roll(4))}
-	case api.Jump:
-		return jump(to)
-	case api.Zero:
-		return zero(reg(), to)
-	case api.Out:
-		return out(reg())
-	case api.Take, api.Give, api.Trap:
-		return api.Ins{Kind: kind, N: int64(1 + d.Roll(2))}
-	default:
-		return api.Ins{Kind: kind}
-	}
-}
-
-// code is a written one that may be, of so many instructions and so many registers.
-func code(d *sample.Dice, many, regs, far int) api.Code {
-	c := make(api.Code, many)
-	for at := range c {
-		c[at] = written(d, at, many, regs, far)
-	}
-	if last := c[many-1].Kind; last != api.Jump && last != api.Trap {
-		c[many-1] = halt
-	}
-	return c
-}
+// code is a written one that may be, of so many instructions and so many registers, each so far from the next one.
+func code(d *sample.Dice, many, regs, far int) api.Code { return d.Code(kinds, many, regs, far) }
 
 // some is a written code, by a seed.
 func some(seed int) api.Code {

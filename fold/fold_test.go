@@ -10,34 +10,15 @@ import (
 	"paling/calc"
 	"paling/fold"
 	"paling/ins"
+	"paling/sample"
 )
 
-// halt ends.
-var halt = api.Ins{Kind: api.Halt}
-
-// set writes a number.
-func set(d int, n int64) api.Ins { return api.Ins{Kind: api.Set, D: d, N: n} }
-
-// move writes what another register has.
-func move(d, a int) api.Ins { return api.Ins{Kind: api.Move, D: d, A: a} }
-
-// does writes what an operator comes to.
-func does(d, a, op, b int) api.Ins { return api.Ins{Kind: api.Calc, D: d, Op: op, A: a, B: b} }
-
-// pick writes what B has, if A isn't 0.
-func pick(d, a, b int) api.Ins { return api.Ins{Kind: api.Pick, D: d, A: a, B: b} }
-
-// load writes what nobody knows.
-func load(d int) api.Ins { return api.Ins{Kind: api.Load, D: d, A: -1} }
-
-// zero goes on, or to a place.
-func zero(a, to int) api.Ins { return api.Ins{Kind: api.Zero, A: a, To: to} }
-
-// jump goes to a place.
-func jump(to int) api.Ins { return api.Ins{Kind: api.Jump, To: to} }
-
-// out reads a register.
-func out(a int) api.Ins { return api.Ins{Kind: api.Out, A: a} }
+// What instructions are here.
+var (
+	halt                  = sample.Halt()
+	set, move, does, pick = sample.Set, sample.Move, sample.Calc, sample.Pick
+	load, zero, jump, out = sample.Load, sample.Zero, sample.Jump, sample.Out
+)
 
 // regs is all registers that a code names, and one more.
 func regs(c api.Code) []int {

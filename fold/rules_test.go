@@ -76,24 +76,10 @@ func TestWhatPlaysNoPart(t *testing.T) {
 		c := some(seed)
 		known := meantOf(c)
 		d := sample.Rolls(seed)
-		for at, i := range c {
-			if i.Kind != api.Calc {
-				c[at].Op = d.Roll(30) - 5
-			}
-			if i.Kind > api.Load {
-				c[at].D = d.Roll(9)
-			}
-			if i.Kind != api.Jump && i.Kind != api.Zero {
-				c[at].To = d.Roll(len(c))
-			}
-			if i.Kind == api.Set || i.Kind == api.Load || i.Kind == api.Jump || i.Kind > api.Zero {
+		d.Stray(c)
+		for at, i := range c { // nor does what is read, where nothing comes of it
+			if i.Kind == api.Load || i.Kind == api.Out {
 				c[at].A = d.Roll(9)
-			}
-			if i.Kind == api.Set || i.Kind == api.Move || i.Kind == api.Load || i.Kind >= api.Jump {
-				c[at].B = d.Roll(9)
-			}
-			if i.Kind != api.Set {
-				c[at].N = int64(d.Roll(9))
 			}
 		}
 		holds(t, c, known)

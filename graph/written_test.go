@@ -32,23 +32,6 @@ func against(t *testing.T, c api.Code) int {
 	return len(want)
 }
 
-// every calls for each code of so many instructions that are of some.
-func every(many int, of []api.Ins, do func(api.Code)) {
-	c := make(api.Code, many)
-	var put func(at int)
-	put = func(at int) {
-		if at == many {
-			do(c)
-			return
-		}
-		for _, i := range of {
-			c[at] = i
-			put(at + 1)
-		}
-	}
-	put(0)
-}
-
 // leaps are all that go to a place from one on, up to another, and more.
 func leaps(first, last int, more ...api.Ins) []api.Ins {
 	for to := first; to <= last; to++ {
@@ -65,9 +48,9 @@ func TestEveryShortCode(t *testing.T) {
 		loops += against(t, c)
 	}
 	for many := range 5 {
-		every(many, leaps(-1, many, set, halt), do)
+		sample.Every(many, leaps(-1, many, set, halt), do)
 	}
-	every(5, leaps(0, 4, halt), do)
+	sample.Every(5, leaps(0, 4, halt), do)
 	if count != 1+8+100+1728+38416+161051 || loops < 50000 {
 		t.Error(count, loops)
 	}

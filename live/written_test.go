@@ -10,23 +10,6 @@ import (
 	"paling/sample"
 )
 
-// every calls for each code of so many instructions that are of some.
-func every(many int, of []api.Ins, do func(api.Code)) {
-	c := make(api.Code, many)
-	var put func(at int)
-	put = func(at int) {
-		if at == many {
-			do(c)
-			return
-		}
-		for _, i := range of {
-			c[at] = i
-			put(at + 1)
-		}
-	}
-	put(0)
-}
-
 // leaps are all that go to a place from one on, up to another, and more.
 func leaps(first, last int, more ...api.Ins) []api.Ins {
 	for to := first; to <= last; to++ {
@@ -45,9 +28,9 @@ func TestEveryShortCode(t *testing.T) {
 		most += w.most
 	}
 	for many := range 4 {
-		every(many, leaps(-1, many, set(0), out(0), move(1, 0), pick(0, 1, 1), halt), do)
+		sample.Every(many, leaps(-1, many, set(0), out(0), move(1, 0), pick(0, 1, 1), halt), do)
 	}
-	every(4, leaps(0, 3, set(0), set(1), out(1), move(0, 1), halt), do)
+	sample.Every(4, leaps(0, 3, set(0), set(1), out(1), move(0, 1), halt), do)
 	if count != 1+11+13*13+15*15*15+13*13*13*13 || most < 30000 {
 		t.Error(count, most)
 	}

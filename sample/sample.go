@@ -1,4 +1,4 @@
-// Package sample writes programs that may be, for the tests of other packages.
+// Package sample writes programs, and codes, that may be, for the tests of other packages.
 package sample
 
 import (
